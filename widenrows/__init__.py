@@ -1,0 +1,1 @@
+"""Widenrows: rows of a machine widened in place."""
