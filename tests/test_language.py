@@ -25,6 +25,13 @@ NO_EXPRESSIONS = (
     ast.Await,
 )
 
+OWN_METHODS = (
+    "append clear copy count endswith extend find get index insert isalnum isalpha isdigit islower isspace isupper "
+    "items join keys ljust lower lstrip partition pop remove replace reverse rfind rjust rpartition rsplit rstrip "
+    "setdefault split splitlines startswith strip update upper values zfill bit_length"
+).split()
+TWO_UNDERSCORES = ("__init__", "__eq__", "__repr__", "__str__", "__len__")
+
 
 def files():
     return sorted(path for path in PACKAGE.rglob("*") if path.is_file() and "__pycache__" not in path.parts)
@@ -36,6 +43,22 @@ def sources():
 
 def nodes():
     return [(name, node) for name, source in sources() for node in ast.walk(ast.parse(source))]
+
+
+def methods():
+    return {deed.name for name, node in nodes() if isinstance(node, ast.ClassDef)
+            for deed in node.body if isinstance(deed, ast.FunctionDef)}
+
+
+def stored_values():
+    return {node.attr for name, node in nodes() if isinstance(node, ast.Attribute) and isinstance(node.ctx, ast.Store)}
+
+
+def drawn_from():
+    """For each file the package's files whose names it imports."""
+    return {name[:-3]: {node.module.split(".")[1] for node in ast.walk(ast.parse(source))
+                        if isinstance(node, ast.ImportFrom) and node.module != "__future__"}
+            for name, source in sources()}
 
 
 class Language(unittest.TestCase):
@@ -88,6 +111,43 @@ class Language(unittest.TestCase):
                 self.assertIsInstance(node.ctx, ast.Load, (name, node.lineno))
             if isinstance(node, ast.arg):
                 self.assertFalse(hasattr(builtins, node.arg), (name, node.lineno))
+
+    def test_names_are_plain(self):
+        for name, node in nodes():
+            called = getattr(node, "id", None) or getattr(node, "arg", None) or getattr(node, "attr", None)
+            if isinstance(node, (ast.FunctionDef, ast.ClassDef)):
+                called = node.name
+            if isinstance(called, str) and called not in TWO_UNDERSCORES:
+                self.assertRegex(called, r"\A[A-Za-z][A-Za-z0-9_]*\Z", name)
+
+    def test_is_stands_beside_none_and_truths_alone(self):
+        for name, node in nodes():
+            if isinstance(node, ast.Compare) and isinstance(node.ops[0], (ast.Is, ast.IsNot)):
+                self.assertIsInstance(node.comparators[0], ast.Constant, (name, node.lineno))
+                self.assertIn(node.comparators[0].value, (None, True, False), (name, node.lineno))
+
+    def test_methods(self):
+        known = methods().union(OWN_METHODS)
+        for name, node in nodes():
+            if isinstance(node, ast.Call) and isinstance(node.func, ast.Attribute):
+                self.assertIn(node.func.attr, known, (name, node.lineno))
+        self.assertEqual(methods() & stored_values(), set())
+
+    def test_names_are_drawn_from_the_file_that_defines_them(self):
+        tops = {name[:-3]: {getattr(node, "name", None) or node.targets[0].id for node in ast.parse(source).body
+                            if isinstance(node, (ast.FunctionDef, ast.ClassDef, ast.Assign))}
+                for name, source in sources()}
+        for name, node in nodes():
+            if isinstance(node, ast.ImportFrom) and node.module != "__future__":
+                for drawn in node.names:
+                    self.assertIn(drawn.name, tops[node.module.split(".")[1]], name)
+
+    def test_no_two_files_draw_from_one_another(self):
+        left = drawn_from()
+        while left:
+            free = [name for name in left if not left[name] & set(left)]
+            self.assertNotEqual(free, [], left)
+            left = {name: left[name] for name in left if name not in free}
 
 
 if __name__ == "__main__":

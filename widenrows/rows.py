@@ -75,6 +75,14 @@ def is_row(row):
     return all([is_part(kind, part) for kind, part in zip(kinds, row[1:])])
 
 
+def has_far(word):
+    return "far" in PARTS[word]
+
+
+def parts_of(row, kinds):
+    return [part for kind, part in zip(PARTS[row[0]], row[1:]) if kind in kinds]
+
+
 def stays_within(row, how_many):
     return all([target < how_many for target in targets_of(row)])
 

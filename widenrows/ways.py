@@ -19,6 +19,17 @@ def targets_of(row):
     return []
 
 
+def with_targets(row, targets):
+    word = row[0]
+    if word == "table":
+        return (word, row[1], tuple(targets))
+    if word in ("jump", "call", "mark"):
+        return (word, targets[0], row[2])
+    if word in ("zero", "below"):
+        return (word, row[1], targets[0], row[3])
+    return row
+
+
 def ways_of(rows, r):
     ways = targets_of(rows[r])
     if goes_on(rows[r]):
