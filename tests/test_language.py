@@ -142,6 +142,23 @@ class Language(unittest.TestCase):
                 for drawn in node.names:
                     self.assertIn(drawn.name, tops[node.module.split(".")[1]], name)
 
+    def test_no_local_is_called_like_a_class_or_an_import(self):
+        for name, source in sources():
+            tree = ast.parse(source)
+            taken = {drawn.name for node in tree.body if isinstance(node, ast.ImportFrom) for drawn in node.names}
+            taken |= {node.name for node in tree.body if isinstance(node, ast.ClassDef)}
+            for node in ast.walk(tree):
+                if isinstance(node, ast.Name) and isinstance(node.ctx, ast.Store):
+                    self.assertNotIn(node.id, taken, (name, node.lineno))
+                if isinstance(node, ast.arg):
+                    self.assertNotIn(node.arg, taken, (name, node.lineno))
+
+    def test_assignments_have_one_target(self):
+        for name, node in nodes():
+            if isinstance(node, ast.Assign):
+                self.assertEqual(len(node.targets), 1, (name, node.lineno))
+                self.assertNotIsInstance(node.targets[0], (ast.Tuple, ast.List), (name, node.lineno))
+
     def test_no_two_files_draw_from_one_another(self):
         left = drawn_from()
         while left:

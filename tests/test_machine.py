@@ -2,7 +2,7 @@ import copy
 import random
 import unittest
 
-from samples import STOP, random_program
+from samples import STOP, plain_run, random_beginning, random_program, state_of
 from widenrows.errors import Ended, RowError
 from widenrows.layout import least_layout
 from widenrows.machine import Machine
@@ -16,14 +16,6 @@ NOUGHTS = [0] * 8
 def made(rows, boxes=NOUGHTS, cells=(), bells=()):
     check_rows(rows)
     return Machine(rows, list(boxes), dict(cells), list(bells))
-
-
-def state_of(machine):
-    return {
-        "row": machine.row(), "ending": machine.ending(), "boxes": machine.boxes(), "cells": machine.cells(),
-        "asides": machine.asides(), "told": machine.told(), "seen": machine.seen(), "deep": machine.deep(),
-        "passed": machine.passed(),
-    }
 
 
 def with_box(box, number):
@@ -386,80 +378,13 @@ class Runs(Case):
         self.state(machine, row=0, ending=None)
 
 
-def plain_run(rows, boxes, cells, bells, most):
-    """Another machine, which keeps everything in plain values: the states at which it stood."""
-    box, cell, aside = dict(enumerate(boxes)), dict(cells), {}
-    told, seen, pile, marks, at, ending = [], [], [], 0, 0, None
-    states = []
-    while True:
-        states.append({
-            "row": at, "ending": ending, "boxes": [box[b] for b in range(8)],
-            "cells": {c: n for c, n in cell.items() if n}, "asides": {a: n for a, n in aside.items() if n},
-            "told": list(told), "seen": list(seen), "deep": len(pile), "passed": marks,
-        })
-        if at is None or len(states) > most:
-            return states
-        word, *parts = rows[at]
-        behind = at + 1
-        target = behind
-        match word, parts:
-            case "stop", []:
-                ending = ("stop",)
-            case "halt", [n]:
-                ending = ("halt", n)
-            case "back", []:
-                ending = None if pile else ("home",)
-                target = pile.pop() if pile else None
-            case "set", [b, v]:
-                box[b] = v
-            case "more", [b, v]:
-                box[b] += v
-            case "copy", [b, c]:
-                box[b] = box[c]
-            case "add", [b, c]:
-                box[b] += box[c]
-            case "less", [b, c]:
-                box[b] -= box[c]
-            case "load", [b, c]:
-                box[b] = cell.get(box[c], 0)
-            case "keep", [b, c]:
-                cell[box[b]] = box[c]
-            case "tell", [b]:
-                told.append(box[b])
-            case "see", [b, n]:
-                seen.append((n, box[b]))
-            case "put", [b, a]:
-                aside[a] = box[b]
-            case "take", [b, a]:
-                box[b] = aside.get(a, 0)
-            case "jump", [t, far]:
-                target = t
-            case "zero", [b, t, far]:
-                target = t if box[b] == 0 else behind
-            case "below", [b, t, far]:
-                target = t if box[b] < 0 else behind
-            case "call", [t, far]:
-                pile.append(behind)
-                target = t
-            case "mark", [t, far]:
-                if marks in bells:
-                    pile.append(behind)
-                    target = t
-                marks += 1
-            case "table", [b, targets]:
-                target = dict(enumerate(targets)).get(box[b], behind)
-        at = target if ending is None else None
-
-
 class Drawn(Case):
     def test_each_state_of_drawn_programs(self):
         draw = random.Random(16)
         words = set()
         for k in range(400):
             rows = random_program(draw, draw.randrange(2, 25))
-            boxes = [draw.choice((0, 0, 1, 2, 3, -1)) for b in range(8)]
-            cells = {draw.randrange(-2, 4): draw.randrange(-1, 3) for c in range(3)}
-            bells = [draw.randrange(6) for b in range(draw.randrange(5))]
+            boxes, cells, bells = random_beginning(draw)
             machine = made(rows, boxes, cells, bells)
             for state in plain_run(rows, boxes, cells, bells, 60):
                 self.assertEqual(state_of(machine), state)

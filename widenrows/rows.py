@@ -61,18 +61,20 @@ def is_part(kind, thing):
     return is_number_of(kind, thing)
 
 
-def has_word(row):
-    # A word is looked up only where it is a text: other things may not be fit to be looked up at all.
-    return isinstance(row, tuple) and len(row) > 0 and isinstance(row[0], str) and row[0] in PARTS
+def are_parts(kinds, things):
+    return len(things) == len(kinds) and all([is_part(kind, thing) for kind, thing in zip(kinds, things)])
+
+
+def word_of(thing):
+    # None where it is no text: other things may not be fit to be looked up at all.
+    if isinstance(thing, tuple) and len(thing) > 0 and isinstance(thing[0], str):
+        return thing[0]
+    return None
 
 
 def is_row(row):
-    if not has_word(row):
-        return False
-    kinds = PARTS[row[0]]
-    if len(row) != 1 + len(kinds):
-        return False
-    return all([is_part(kind, part) for kind, part in zip(kinds, row[1:])])
+    word = word_of(row)
+    return word in PARTS and are_parts(PARTS[word], row[1:])
 
 
 def has_far(word):
