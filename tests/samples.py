@@ -3,6 +3,7 @@
 from widenrows.ways import ways_of
 
 STOP = ("stop",)
+JUMPING = ("jump", "zero", "below", "call", "mark")
 
 # Each word, short and far: the row, its line, how many units it has. Targets are row 3.
 FORMS = (
@@ -186,6 +187,15 @@ def plain_run(rows, boxes, cells, bells, most, changes=()):
             case "table", [b, targets]:
                 target = dict(enumerate(targets)).get(box[b], behind)
         at = target if ending is None else None
+
+
+def asides_named(rows):
+    return {row[2] for row in rows if row[0] in ("put", "take")}
+
+
+def paper_of(old, leads, free=None):
+    return {"leads": list(leads), "forms": [row[-1] if row[0] in JUMPING else 0 for row in old],
+            "free": [()] * len(old) if free is None else list(free), "counts": []}
 
 
 def what_is_seen(what, boxes, told):

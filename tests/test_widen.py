@@ -2,19 +2,20 @@ import copy
 import random
 import unittest
 
-from samples import (FORMS, STOP, all_places, lists_within, lively_program, plain_reading, plain_run, random_beginning,
-                     random_program, random_wishes, spoil)
+from samples import (FORMS, JUMPING, STOP, all_places, asides_named, lists_within, lively_program, plain_reading,
+                     plain_run, random_beginning, random_program, random_wishes, spoil)
 from widenrows.errors import NoRows, NoWish
 from widenrows.free import check_free, free_boxes
 from widenrows.layout import check_layout, least_layout
 from widenrows.machine import Machine
+from widenrows.out import taken_out
+from widenrows.papers import check_paper
 from widenrows.rows import check_rows
 from widenrows.ways import ways_of
 from widenrows.widen import widened
 
 NOUGHTS = [0] * 8
 MAY_BE_PUT_IN = ("set", "more", "copy", "add", "less", "put", "take", "see", "jump", "zero", "below", "halt")
-JUMPING = ("jump", "zero", "below", "call", "mark")
 WHATS = (("look", 4, 0), ("look", 10**6, 7), ("count", 4), ("count", 10**6), ("guard", 4, 0), ("guard", 0, 7))
 
 
@@ -25,10 +26,6 @@ def parts_that_stay(row):
     if row[0] in ("jump", "call", "mark"):
         return row[:1]
     return row[:2] if row[0] in ("zero", "below") else row
-
-
-def asides_named(rows):
-    return {row[2] for row in rows if row[0] in ("put", "take")}
 
 
 def with_far(row, far):
@@ -58,6 +55,8 @@ class Case(unittest.TestCase):
         self.assertEqual(len({aside for n, aside in counts}), len(counts))
         first = [with_far(row, 0 if lead is None else paper["forms"][lead]) for row, lead in zip(new, leads)]
         self.assertEqual(new, least_layout(first))
+        self.assertIsNone(check_paper(rows, new, paper))
+        self.assertEqual(taken_out(new, paper), rows)
         return new, paper
 
     def held(self, rows, wishes, boxes=NOUGHTS, cells=(), bells=(), most=60, widen=None):

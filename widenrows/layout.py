@@ -1,7 +1,7 @@
 """Where rows begin, how far their targets lie, and which jumps must be long."""
 
 from widenrows.errors import NoLayout
-from widenrows.rows import has_far
+from widenrows.rows import has_far, with_far
 from widenrows.ways import targets_of
 
 LEAST_SHORT = -64
@@ -85,4 +85,4 @@ def jumps_to_lengthen(rows):
 
 def least_layout(rows):
     longer = jumps_to_lengthen(rows)
-    return [row[:-1] + (1,) if r in longer else row for r, row in enumerate(rows)]
+    return [with_far(row, 1) if r in longer else row for r, row in enumerate(rows)]

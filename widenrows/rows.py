@@ -81,8 +81,24 @@ def has_far(word):
     return "far" in PARTS[word]
 
 
+def far_of(row):
+    return row[-1] if has_far(row[0]) else 0
+
+
+def with_far(row, far):
+    return row[:-1] + (far,) if has_far(row[0]) else row
+
+
 def parts_of(row, kinds):
     return [part for kind, part in zip(PARTS[row[0]], row[1:]) if kind in kinds]
+
+
+def asides_named(rows):
+    named = {}
+    for row in rows:
+        for aside in parts_of(row, ("aside",)):
+            named[aside] = True
+    return named
 
 
 def stays_within(row, how_many):

@@ -2,7 +2,7 @@
 
 from widenrows.errors import NoUnits
 from widenrows.layout import begins_of, check_layout, distances_of, is_short_jump, size_of
-from widenrows.rows import MOST_TARGETS, PARTS, has_far, is_number_of, is_whole, parts_of
+from widenrows.rows import MOST_TARGETS, PARTS, far_of, has_far, is_number_of, is_whole, parts_of
 from widenrows.ways import goes_on, targets_of, with_targets
 
 # The word and far for each code: the code is the place.
@@ -23,7 +23,7 @@ NUMBER_KINDS = ("number", "value", "aside")
 
 
 def head_of(row):
-    return (row[0], row[-1] if has_far(row[0]) else 0)
+    return (row[0], far_of(row))
 
 
 def low_of(row, distances):

@@ -2,7 +2,7 @@
 
 from widenrows.free import free_boxes
 from widenrows.layout import least_layout
-from widenrows.rows import check_rows, has_far, parts_of
+from widenrows.rows import asides_named, check_rows, far_of
 from widenrows.ways import goes_on, targets_of, ways_of, with_targets
 from widenrows.wishes import check_wishes, numbers_of_whats, whats_before, whats_on_way
 
@@ -93,15 +93,8 @@ def write_halts(sheet, wishes):
 
 
 def unnamed_asides(rows, how_many):
-    named = {}
-    for row in rows:
-        for aside in parts_of(row, ("aside",)):
-            named[aside] = True
+    named = asides_named(rows)
     return [aside for aside in range(len(named) + how_many) if aside not in named][:how_many]
-
-
-def forms_of(rows):
-    return [row[-1] if has_far(row[0]) else 0 for row in rows]
 
 
 def widened(rows, wishes):
@@ -114,5 +107,5 @@ def widened(rows, wishes):
     write_old_rows(sheet, rows, wishes)
     write_ways_round(sheet, rows, wishes)
     write_halts(sheet, wishes)
-    paper = {"leads": sheet.leads, "forms": forms_of(rows), "free": free_boxes(rows), "counts": counts}
+    paper = {"leads": sheet.leads, "forms": [far_of(row) for row in rows], "free": free_boxes(rows), "counts": counts}
     return (least_layout(sheet.finished_rows()), paper)
